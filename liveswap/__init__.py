@@ -1,0 +1,1 @@
+"""Liveswap: a running machine changed for another one."""
