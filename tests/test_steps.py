@@ -1,12 +1,11 @@
 """Point 3: states, steps and runs."""
 
 import inspect
-import itertools
 import unittest
 
 from liveswap.errors import BadCount, BadProgram, BadState
 from liveswap.programs import need_state, ran, step
-from tests.helper import NO_TUPLES, ODD, check_refused, kept, outside
+from tests.helper import NO_TUPLES, ODD, all_numbers, all_states, check_refused, kept, outside
 
 STOP = ("stop",)
 # Tells 0 to 2 for ever.
@@ -18,15 +17,6 @@ KINDS = (2, 2, [
     ("put", 0, 1), ("tell", 0), ("more", 0), ("copy", 1, 0), ("tell", 1),
     ("ask", 1, 9), ("tell", 0), ("put", 1, 0), ("go", 5), STOP,
 ])
-
-
-def all_numbers(program):
-    boxes, most, _ = program
-    return list(itertools.product(range(most + 1), repeat=boxes))
-
-
-def all_states(program):
-    return list(itertools.product(range(len(program[2])), all_numbers(program)))
 
 
 def ran_by_steps(program, state, most):
